@@ -3,7 +3,7 @@ import unittest
 
 from brooktally import errors
 from brooktally.events import event_of, is_event, shown
-from oddities import Contrary, no_names, no_numbers
+from samples import Contrary, no_names, no_numbers
 
 BILLION = 1000000000
 # Of lines whose numbers have few figures: what the document's words say, told otherwise than the program tells it.

@@ -22,6 +22,8 @@ OWN_NAMES = """len range enumerate zip min max sum abs sorted reversed int str b
 METHODS = """append clear copy count endswith extend find get index insert isalnum isalpha isdigit islower isspace
     isupper items join keys ljust lower lstrip partition pop remove replace reverse rfind rjust rpartition rsplit
     rstrip setdefault split splitlines startswith strip update upper values zfill bit_length""".split()
+NO_VALUES = """items keys values pop update append clear extend insert remove reverse setdefault sort args encode
+    format real imag numerator denominator conjugate""".split()
 NO_WORDS = re.compile(r"\b(type|typing|typing_extensions|enum|Enum|IntEnum|StrEnum|Flag|IntFlag|Generic|Protocol|ABC"
                       r"|ABCMeta|namedtuple|NamedTuple|TypedDict|TYPE_CHECKING|abstractmethod)\b"
                       r"|dataclass|overload|contextmanager")
@@ -81,6 +83,24 @@ class FormTest(unittest.TestCase):
             for part in node.body:
                 self.assertIsInstance(part, (ast.FunctionDef, ast.Pass), (name, node.name))
 
+    def test_l7_comprehensions(self):
+        for name, node in nodes(ast.ListComp):
+            self.assertEqual(len(node.generators), 1, (name, node.lineno))
+            self.assertLessEqual(len(node.generators[0].ifs), 1, (name, node.lineno))
+
+    def test_l18_methods_and_values(self):
+        methods = {part.name for name, node in nodes(ast.ClassDef) for part in node.body
+                   if isinstance(part, ast.FunctionDef)}
+        for name, node in nodes(ast.Attribute):
+            if isinstance(node.ctx, ast.Store):
+                self.assertNotIn(node.attr, methods, (name, node.lineno))
+                self.assertNotIn(node.attr, NO_VALUES, (name, node.lineno))
+
+    def test_l19_handlers(self):
+        for name, node in nodes(ast.ExceptHandler):
+            self.assertIsInstance(node.type, ast.Name, (name, node.lineno))
+            self.assertNotIn(node.type.id, ("Exception", "TypeError"), (name, node.lineno))
+
     def test_l20_is(self):
         for name, node in nodes(ast.Compare):
             for sign, right in zip(node.ops, node.comparators):
@@ -124,6 +144,9 @@ class NamesTest(unittest.TestCase):
             tops += [node.name for node in tree.body if isinstance(node, (ast.FunctionDef, ast.ClassDef))]
             tops += [part.name for node in tree.body if isinstance(node, ast.ImportFrom) for part in node.names]
             self.assertEqual(len(tops), len(set(tops)), name)
+            drawn = [part.name for node in tree.body if isinstance(node, ast.ImportFrom) for part in node.names]
+            locals_of = [word for node in tree.body if not isinstance(node, ast.Assign) for word in bound_names(node)]
+            self.assertEqual([word for word in locals_of if word in drawn], [], name)
             for word in bound_names(tree) + defs:
                 self.assertRegex(word, r"\A([A-Za-z][A-Za-z0-9_]*|__(init|eq|repr|str|len)__)\Z", name)
                 self.assertNotIn(word, dir(builtins), name)

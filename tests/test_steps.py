@@ -1,14 +1,11 @@
 import unittest
 
 from brooktally.steps import feeders, is_step, is_teller, name_of
-from oddities import Contrary, no_names, no_numbers
+from samples import STEPS, Contrary, no_names, no_numbers
 
 BILLION = 1000000000
 MILLION = 1000000
 TALLIES = ("count", "sum", "least", "greatest")
-STEPS = [("take", "buys", "buy"), ("only", "great", "buys", 5, 10), ("turn", "back", "buys", -1, 0),
-         ("both", "all", "buys", "back"), ("join", "met", "buys", "back", 60),
-         ("each", "perday", "buys", "sum", 10, 5), ("gap", "visits", "buys", "count", 30)]
 NAME_PLACES = {"take": (1, 2), "only": (1, 2), "turn": (1, 2), "both": (1, 2, 3), "join": (1, 2, 3),
                "each": (1, 2), "gap": (1, 2)}
 TALLY_PLACES = {"each": (3,), "gap": (3,)}

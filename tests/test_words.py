@@ -4,7 +4,7 @@ import unittest
 
 from brooktally import words
 from brooktally.words import is_among, is_amount, is_name, is_time, is_whole, number_of, number_text
-from oddities import no_names, no_numbers
+from samples import no_names, no_numbers
 
 BILLION = 1000000000
 NO_LETTERS = ["A", "Z", "0", "9", "_", "-", " ", "\t", "\n", "`", "{", "~", ".", "\u00e9", "\u0131", "\U0001d41a"]
