@@ -52,3 +52,7 @@ def doubled(word, times):
         step = (word, name_at(number), name_at(number - 1), name_at(number - 1))
         plan.append(step + (7,) if word == "join" else step)
     return plan
+
+
+def tally_by_words(amounts):
+    return (len(amounts), sum(amounts), min(amounts), max(amounts))

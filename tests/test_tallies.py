@@ -2,14 +2,11 @@ import itertools
 import unittest
 
 from brooktally.tallies import added, tally_of, value
+from samples import tally_by_words
 
 GREAT = 10 ** 18
 ROWS = [[0], [5], [-5], [1, 2], [2, 1], [-3, 3, -3], [7, 7, 7, 7], [0, -1, 1], [GREAT + 1, -GREAT - 2, 3],
         [10 ** 40, 10 ** 40, -10 ** 41], [-1000000000, 1000000000, 0, -1]]
-
-
-def tally_by_words(amounts):
-    return (len(amounts), sum(amounts), min(amounts), max(amounts))
 
 
 def together(amounts):
