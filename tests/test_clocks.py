@@ -4,16 +4,10 @@ import unittest
 
 from brooktally import errors
 from brooktally.clocks import Clock, late_places
-from samples import no_numbers
+from samples import late_by_words, no_numbers
 
 BILLION = 1000000000
 NO_SLACKS = no_numbers() + [-1, -BILLION, BILLION + 1, 10 ** 30]
-
-
-def late_by_words(slack, times):
-    """A time is late just where some time told ahead of it is more than the slack greater."""
-    return [place for place, time in enumerate(times)
-            if any(ahead - time > slack for ahead in times[:place])]
 
 
 def some_rows():

@@ -3,7 +3,7 @@ import random
 import unittest
 
 from brooktally.groups import Group
-from samples import tally_by_words
+from samples import value_by_words, windows_by_words
 
 GREAT = 10 ** 18
 DAYS = ("each", "days", "buys", "sum", 10, 5)
@@ -25,20 +25,10 @@ def rows_by_words(step, items):
     told = []
     for key in sorted({item[1] for item in items}):
         own = [item for item in items if item[1] == key]
-        for start, end in windows_by_words(step, sorted({item[0] for item in own})):
-            tally = tally_by_words([item[2] for item in own if start <= item[0] < end])
-            told.append((step[1], key, start, end, tally[("count", "sum", "least", "greatest").index(step[3])]))
+        for start, end in windows_by_words(step, [item[0] for item in own]):
+            value = value_by_words(step[3], [item[2] for item in own if start <= item[0] < end])
+            told.append((step[1], key, start, end, value))
     return sorted(told, key=lambda row: (row[3], row[1], row[2]))
-
-
-def windows_by_words(step, times):
-    if step[0] == "each":
-        size, by = step[4:]
-        numbers = {number for time in times for number in range(time // by - 25, time // by + 2)}
-        return [(number * by, number * by + size) for number in sorted(numbers)
-                if any(number * by <= time < number * by + size for time in times)]
-    cuts = [0] + [place for place in range(1, len(times)) if times[place] - times[place - 1] > step[4]] + [len(times)]
-    return [(times[low], times[high - 1] + step[4] + 1) for low, high in zip(cuts, cuts[1:])]
 
 
 class GroupTest(unittest.TestCase):
