@@ -1,7 +1,7 @@
 """Events, and the lines that write them."""
 
 from brooktally.errors import BadEvent
-from brooktally.words import is_amount, is_name, is_time, number_of, number_text
+from brooktally.words import is_amount, is_name, is_time, line_of, number_of
 
 
 def is_event(thing):
@@ -11,7 +11,7 @@ def is_event(thing):
 
 
 def shown(event):
-    return " ".join([number_text(event[0]), event[1], event[2], number_text(event[3])])
+    return line_of(event)
 
 
 def event_of(line):

@@ -3,19 +3,11 @@
 from brooktally.errors import BadLine
 from brooktally.plans import checked
 from brooktally.steps import is_step, name_of
-from brooktally.words import is_whole, number_of, number_text
-
-
-def part_text(part):
-    return number_text(part) if is_whole(part) else part
-
-
-def step_line(step):
-    return " ".join([name_of(step), step[0]] + [part_text(part) for part in step[2:]])
+from brooktally.words import line_of, number_of
 
 
 def written(plan):
-    return [step_line(step) for step in plan]
+    return [line_of((name_of(step), step[0]) + step[2:]) for step in plan]
 
 
 def part_of(word):

@@ -1,10 +1,6 @@
 """Keeps: all that a flow knows beside its plan and slack, as lines."""
 
-from brooktally.words import number_text
-
-
-def line_of(parts):
-    return " ".join([part if isinstance(part, str) else number_text(part) for part in parts])
+from brooktally.words import line_of
 
 
 def end_line(many):

@@ -1,4 +1,4 @@
-"""Whole numbers, names, times and amounts, and how a number is written and read."""
+"""Whole numbers, names, times and amounts, how a number is written and read, and lines of words."""
 
 LETTERS = "abcdefghijklmnopqrstuvwxyz"
 FIGURES = "0123456789"
@@ -48,6 +48,10 @@ def number_text(number):
     if number < 0:
         return "-" + figures_of(-number)
     return figures_of(number)
+
+
+def line_of(parts):
+    return " ".join([part if isinstance(part, str) else number_text(part) for part in parts])
 
 
 def number_of(word):
