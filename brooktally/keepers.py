@@ -2,7 +2,7 @@
 
 from brooktally.flow import Flow
 from brooktally.packs import packed
-from brooktally.shelves import Shelf
+from brooktally.shelves import Shelf, slot_due
 from brooktally.unpacks import unpacked
 
 
@@ -38,9 +38,8 @@ class Keeper:
             self.shelf.tell(number + more, row)
 
     def keep_due(self, number):
-        if number == 0 or number % self.every != 0:
-            return None
-        return (number // self.every % 2, packed(self.flow))
+        slot = slot_due(number, self.every)
+        return None if slot is None else (slot, packed(self.flow))
 
     def stop(self, many):
         if self.flow is not None and many is not None and self.due is not None:

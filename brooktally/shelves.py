@@ -10,6 +10,11 @@ def kept_count(lines):
     return -1 if first is None else first[1]
 
 
+def slot_due(number, every):
+    # The slot of the keep that is written behind so many events, or None where none is.
+    return number // every % 2 if number > 0 and number % every == 0 else None
+
+
 class Shelf:
     def __init__(self):
         self.slots = [[], []]

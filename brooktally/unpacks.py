@@ -79,7 +79,8 @@ def unpacked(plan, slack, lines):
     if first is None:
         raise BadKeep(0)
     put_lines(lines, flow.joins, flow.groups)
-    flow.clock.now = first[0]
-    flow.clock.count = first[1]
+    clock = flow.clock
+    clock.now = first[0]
+    clock.count = first[1]
     flow.number = first[2]
     return flow
